@@ -1,0 +1,1 @@
+"""Parcelindex: parcels chosen, locked and installed."""
