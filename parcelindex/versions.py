@@ -1,21 +1,13 @@
 """Versions: their texts, their order and their ranks."""
 
-from parcelindex.checks import DIGITS, is_string_of, is_whole_to
+from parcelindex.checks import is_whole_to, number_in
 from parcelindex.errors import BadCount, BadVersion
 
 STAGES = ("a", "b", "rc")
 # Four numbers have a thousand versions for each stage and, behind them, the one without a stage.
 FINAL = 3000
 WIDTH = 3001
-
-
-def number_of_text(text):
-    """The number from 0 to 999 that is written in a text, or None."""
-    if not is_string_of(text, DIGITS, 3):
-        return None
-    if text[0] == "0" and text != "0":
-        return None
-    return int(text)
+GREATEST = 999
 
 
 def stage_of_text(text):
@@ -23,7 +15,7 @@ def stage_of_text(text):
     for at, word in enumerate(STAGES):
         front, found, back = text.partition(word)
         if found:
-            number = number_of_text(back)
+            number = number_in(back, GREATEST)
             if number is None:
                 return front, None
             return front, at * 1000 + number
@@ -35,7 +27,7 @@ def parts_of_text(thing):
     if not isinstance(thing, str):
         return None
     front, stage = stage_of_text(thing)
-    numbers = [number_of_text(part) for part in front.split(".")]
+    numbers = [number_in(part, GREATEST) for part in front.split(".")]
     if stage is None or None in numbers or len(numbers) > 4:
         return None
     return tuple(numbers), stage
@@ -75,6 +67,14 @@ def text_at(rank):
     return text_of_numbers(numbers_at(rank)) + text_of_stage(rank % WIDTH)
 
 
+def written_version(text):
+    """The version that gives itself exactly this text; None if there is none."""
+    if parts_of_text(text) is None:
+        return None
+    made = Version(text)
+    return made if str(made) == text else None
+
+
 class Version:
     """A version; it is known by its rank alone."""
 
@@ -90,7 +90,7 @@ class Version:
     @classmethod
     def of(cls, *numbers):
         """The version with these numbers and without a stage."""
-        good = all([is_whole_to(number, 999) for number in numbers])
+        good = all([is_whole_to(number, GREATEST) for number in numbers])
         if not good or not 1 <= len(numbers) <= 4:
             raise BadVersion(numbers)
         return cls.at(rank_of(numbers, FINAL))

@@ -69,6 +69,51 @@ def bound_names(tree):
     return found
 
 
+def parents(tree):
+    """For each node the one in which it stands."""
+    return {child: node for node in ast.walk(tree) for child in ast.iter_child_nodes(node)}
+
+
+def called(node):
+    """The name of what is called, or an empty text."""
+    if not isinstance(node, ast.Call):
+        return ""
+    return node.func.id if isinstance(node.func, ast.Name) else node.func.attr if isinstance(node.func, ast.Attribute) else ""
+
+
+def methods_of_kind(kind):
+    """The names of the methods with this decorator, or with none for an empty text."""
+    found = set()
+    for _, tree in trees():
+        for node in ast.walk(tree):
+            for one in node.body if isinstance(node, ast.ClassDef) else ():
+                if isinstance(one, ast.FunctionDef):
+                    signs = [sign.id for sign in one.decorator_list if isinstance(sign, ast.Name)] or [""]
+                    found |= {one.name} if kind in signs else set()
+    return found
+
+
+def generators():
+    """The names of the functions that yield."""
+    return [node.name for _, tree in trees() for node in ast.walk(tree) if isinstance(node, ast.FunctionDef)
+            and any(isinstance(one, (ast.Yield, ast.YieldFrom)) for one in ast.walk(node))]
+
+
+def is_iterated(node, above):
+    """Whether a call stands where it is iterated at once."""
+    parent = above[node]
+    if isinstance(parent, (ast.For, ast.comprehension)):
+        return parent.iter is node
+    return called(parent) in ("list", "tuple", "dict", "sorted", "sum", "min", "max", "any", "all", "enumerate", "zip", "combinations")
+
+
+def is_plain(node):
+    """Whether it is plain that something can be ordered: numbers, strings, or a list of such."""
+    if isinstance(node, ast.ListComp):
+        return is_plain(node.elt)
+    return isinstance(node, ast.Constant) or called(node) in ("int", "str", "len", "ord", "repr", "range")
+
+
 class LanguageTest(unittest.TestCase):
     def test_folder(self):
         for path in PACKAGE.iterdir():
@@ -162,6 +207,63 @@ class LanguageTest(unittest.TestCase):
                     if isinstance(node.value, str) and node not in told:
                         self.assertNotIn("%", node.value, (name, node.lineno))
                         self.assertNotRegex(node.value, r"\btype\b|^__|[.]__?$", (name, node.lineno))
+
+    def test_properties_and_other_methods(self):
+        plain, read, other = methods_of_kind(""), methods_of_kind("property"), methods_of_kind("staticmethod") | methods_of_kind("classmethod")
+        self.assertEqual((plain & read, plain & other, read & other), (set(), set(), set()))
+        values = {name for kind in (str, int, list, dict, set, bytes) for name in dir(kind)}
+        self.assertEqual((read | other) & values, set())
+        self.assertEqual({name for name in plain if name in values and not name.startswith("__")} - {"add", "remove"}, set())
+        for name, tree in trees():
+            for node in ast.walk(tree):
+                if isinstance(node, ast.Attribute) and isinstance(node.ctx, ast.Store):
+                    self.assertNotIn(node.attr, plain | read | other, (name, node.lineno))
+                if isinstance(node, ast.Call) and isinstance(node.func, ast.Attribute):
+                    self.assertNotIn(node.func.attr, read, (name, node.lineno))
+
+    def test_generators(self):
+        names = generators()
+        functions = [node.name for _, tree in trees() for node in ast.walk(tree) if isinstance(node, ast.FunctionDef)]
+        self.assertFalse(set(names) & (methods_of_kind("property") | methods_of_kind("staticmethod") | methods_of_kind("classmethod")))
+        for name in names:
+            self.assertEqual(functions.count(name), 1, name)
+        for name, tree in trees():
+            above = parents(tree)
+            for node in ast.walk(tree):
+                if called(node) in names:
+                    self.assertTrue(is_iterated(node, above), (name, node.lineno))
+
+    def test_what_is_iterated_at_once(self):
+        for name, tree in trees():
+            above = parents(tree)
+            for node in ast.walk(tree):
+                if called(node) in ("zip", "enumerate", "reversed", "range", "items", "keys", "values", "combinations"):
+                    self.assertTrue(is_iterated(node, above), (name, node.lineno))
+
+    def test_orders_of_plain_values_and_no_sets(self):
+        for name, tree in trees():
+            for node in ast.walk(tree):
+                self.assertNotIsInstance(node, (ast.Set, ast.SetComp, ast.Lambda), (name, getattr(node, "lineno", 0)))
+                self.assertNotIn(called(node), ("set", "frozenset", "sort"), (name, getattr(node, "lineno", 0)))
+                if called(node) in ("sorted", "min", "max") and isinstance(node.func, ast.Name):
+                    plain = [is_plain(one) for one in node.args]
+                    self.assertTrue(any(plain) if len(plain) > 1 else all(plain), (name, node.lineno))
+
+    def test_adding_in_place(self):
+        for name, tree in trees():
+            for node in ast.walk(tree):
+                if isinstance(node, ast.AugAssign):
+                    self.assertIsInstance(node.value, ast.Constant, (name, node.lineno))
+
+    def test_local_names_are_no_imports_and_classes(self):
+        for name, tree in trees():
+            taken = {alias.name for node in tree.body if isinstance(node, ast.ImportFrom) for alias in node.names}
+            taken |= {node.name for node in tree.body if isinstance(node, ast.ClassDef)}
+            for node in ast.walk(tree):
+                if isinstance(node, ast.Name) and isinstance(node.ctx, ast.Store):
+                    self.assertNotIn(node.id, taken, (name, node.lineno))
+                if isinstance(node, ast.arg):
+                    self.assertNotIn(node.arg, taken, (name, node.lineno))
 
     def test_asking_lists_and_not_generators(self):
         barred = ("any", "all", "min", "max", "sum", "sorted", "set")
