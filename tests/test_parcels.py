@@ -103,11 +103,15 @@ class PartsTest(unittest.TestCase):
             self.assertEqual(Parcel.read(text=text), parcel)
 
     def test_offers(self):
+        class Likes:
+            def __eq__(self, other):
+                return True
+
         parcel = made(extras=(("b", NEEDS[:2]), ("z", ()), ("aa", NEEDS[:1])))[0]
         self.assertEqual(parcel.offers("b"), row_of(NEEDS[:2]))
         self.assertEqual(parcel.offers("z"), ())
         self.assertEqual(parcel.offers(word="aa"), row_of(NEEDS[:1]))
-        for thing in model.OTHERS + (0, "", "a", "ab", "B", "milk", ["b"], ("b",), "cup"):
+        for thing in model.OTHERS + (0, "", "a", "ab", "B", "milk", ["b"], ("b",), "cup", Likes()):
             with self.assertRaises(NoName) as held:
                 parcel.offers(thing)
             self.assertIs(held.exception.given, thing)
