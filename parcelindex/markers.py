@@ -55,7 +55,8 @@ def words_to_look_at(rows, field):
     while other in mentioned:
         other += 1
     mentioned[other] = True
-    return [word_at(place) for place in sorted([int(place) for place in mentioned])]
+    places = sorted([int(place) for place in mentioned])
+    return [word_at(place) for place in places]
 
 
 def levels_to_look_at(rows):

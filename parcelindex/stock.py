@@ -47,7 +47,8 @@ class Stock:
         if not isinstance(name, str) or name not in self._releases:
             return ()
         table = self._releases[name]
-        return tuple([table[rank].version for rank in sorted([int(rank) for rank in table], reverse=True)])
+        ranks = sorted([int(rank) for rank in table], reverse=True)
+        return tuple([table[rank].version for rank in ranks])
 
     def release(self, name, rank):
         """The release of a name with the version of this rank, or None."""
