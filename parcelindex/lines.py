@@ -46,12 +46,14 @@ class Lines:
         The line itself is wrong if there is no newline behind the text; otherwise a line of the text is wrong that has
         a character that no text has.
         """
+        # Behind a row that is cut off there is no newline.
+        closed = len(self._rows) - 1 if self._cut_off else len(self._rows)
         start = self._done + 1
         end = start + 1
-        while end <= len(self._rows) and len("\n".join(self._rows[start:end])) < length:
+        while end <= closed and len("\n".join(self._rows[start:end])) < length:
             end += 1
         body = "\n".join(self._rows[start:end])
-        self.accept(end <= len(self._rows) and len(body) == length)
+        self.accept(end <= closed and len(body) == length)
         for row in self._rows[start:end]:
             self.accept(all([is_text_sign(sign) for sign in row]))
         return body

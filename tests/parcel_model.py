@@ -113,7 +113,7 @@ def first_wrong_line(text):
             stage = "files"
             paths.append(rest.split(" ")[0])
             length = int(rest.split(" ")[1])
-            if length > 300 or not rises(paths) or len(paths) > 6 or whole[place + length:place + length + 1] != "\n":
+            if length > 300 or not rises(paths) or len(paths) > 6 or text[place + length:place + length + 1] != "\n":
                 return number
             for row in whole[place:place + length].split("\n"):
                 number += 1

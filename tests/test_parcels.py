@@ -243,7 +243,7 @@ class ReadingTest(unittest.TestCase):
 
     def test_lines_of_parts_written_out(self):
         head = "parcel tea 1 all\nfor always\n"
-        for text, line in (("file a 3\nhot", 5), ("file a 3\nhot\n", None), ("file a 3\nhott\n", 3), ("file a 3\nho\n", 3), ("file a 4\nhot\n", 3),
+        for text, line in (("file a 3\nhot", 3), ("file a 3\nh\nt", 3), ("file a 1\nx\nfile b 2\nyz", 5), ("file a 3\nhot\n", None), ("file a 3\nhott\n", 3), ("file a 3\nho\n", 3), ("file a 4\nhot\n", 3),
                            ("file a 4\nhot\n\n", None), ("file a 2\nhot\n", 3), ("file a 3\nho", 3), ("file a 3\n", 3), ("file a 3", 3),
                            ("file a 0\n", 3), ("file a 0\n\n", None), ("file a 0\nfile b 0\n\n", 3), ("file a 0\n\nfile b 0\n\n", None),
                            ("file a 03\nhot\n", 3), ("file a 3 \nhot\n", 3), ("file a  3\nhot\n", 3), ("file a\nhot\n", 3), ("file a \nhot\n", 3),
