@@ -41,8 +41,11 @@ def improved_at(call, state, name, limits):
     return state
 
 
-def best_state(call, state):
-    """The state of the best choice of a call, made from the state of any of its choices."""
+def best_state(call):
+    """The state of the best choice of a call, made from the state of any of its choices; None if there is none."""
+    state = search_all(call, {})
+    if state is None:
+        return None
     names = call.order_of_names()
     state, limits = with_fewest_changes(call, state, names)
     for name in names:

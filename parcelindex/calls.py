@@ -52,6 +52,25 @@ def names_claimed_by(parcel):
     return names
 
 
+def markers_of_parcel(parcel):
+    """The list of the marker of a parcel and of those of its needs and of the requirements of its extras."""
+    found = [parcel.marker]
+    found.extend([need.marker for need in parcel.needs])
+    for _, row in parcel.extras:
+        found.extend([requirement.marker for requirement in row])
+    return found
+
+
+def markers_in_reach(source, requests):
+    """The tuple of all markers that can matter for these requests: their own and those of the parcels in the reach."""
+    found = [request.marker for request in requests]
+    for name in reach_names(source, requests):
+        for version in source.versions_of(name):
+            for parcel in source.parcels_of(name, version):
+                found.extend(markers_of_parcel(parcel))
+    return tuple(found)
+
+
 class Candidate:
     """An admitted version of a name, and what stands for it in each environment of a call."""
 
@@ -122,6 +141,10 @@ class Call:
         """The names of the requests that have an effect, and then the others in the reach, ascending."""
         asked = self.asked_names()
         return asked + [name for name in reach_names(self._source, self._requests) if name not in asked]
+
+    def markers(self):
+        """The tuple of all markers that can matter."""
+        return markers_in_reach(self._source, self._requests)
 
     def kept(self, name):
         """The kept version of a name, or None."""

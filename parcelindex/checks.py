@@ -47,9 +47,14 @@ def is_text_sign(sign):
     return sign == "\n" or 32 <= code <= 126 and code != PERCENT
 
 
+def is_text(thing):
+    """Whether an object is a text, of any length."""
+    return isinstance(thing, str) and all([is_text_sign(sign) for sign in thing])
+
+
 def is_text_to(thing, most):
     """Whether an object is a text of at most so many characters."""
-    return isinstance(thing, str) and len(thing) <= most and all([is_text_sign(sign) for sign in thing])
+    return isinstance(thing, str) and len(thing) <= most and is_text(thing)
 
 
 def is_rising(row):

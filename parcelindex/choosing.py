@@ -3,9 +3,8 @@
 from parcelindex.best import best_state
 from parcelindex.calls import Call, check_requests, reach_names
 from parcelindex.clashing import clash_of
-from parcelindex.claims import holding
+from parcelindex.claims import owned_claims
 from parcelindex.errors import BadEnvironment, NoChoice, NoName
-from parcelindex.states import search_all
 from parcelindex.words import sorted_words
 
 
@@ -18,16 +17,6 @@ def rows_of(claims, table):
     return tuple(rows)
 
 
-def claims_of(claims, requests, environment):
-    """All claims in one environment, with their owners."""
-    found = [("", request) for request in holding(requests, environment)]
-    for name in claims.claimed_names():
-        stand = claims.stand_of(name)
-        words = sorted_words(claims.words_of(name))
-        found.extend([(name, requirement) for requirement in stand.claims(words)])
-    return tuple(found)
-
-
 def choice_of(call, state):
     """The choice in a state of a call in which all claims are met."""
     given = state.chosen()
@@ -37,17 +26,28 @@ def choice_of(call, state):
     for at, environment in enumerate(call.environments):
         told = state.claims_at(at)
         rows.append(rows_of(told, table))
-        claims.append(claims_of(told, call.requests, environment))
-    return Choice(call.requests, call.environments, table, rows, claims)
+        claims.append(owned_claims(told, call.requests, environment))
+    return Choice(call, table, rows, claims)
+
+
+def best_or_clash(call):
+    """The state of the best choice of a call; if there is none, the clash is raised."""
+    state = best_state(call)
+    if state is None:
+        raise NoChoice(clash_of(call))
+    return state
+
+
+def choice_or_none(call):
+    """The best choice of a call, or None."""
+    state = best_state(call)
+    return None if state is None else choice_of(call, state)
 
 
 def choose(source, requests, environments, *, taste=None):
     """The best choice for requests in environments."""
     call = Call(source, requests, environments, taste)
-    state = search_all(call, {})
-    if state is None:
-        raise NoChoice(clash_of(call))
-    return choice_of(call, best_state(call, state))
+    return choice_of(call, best_or_clash(call))
 
 
 def reach_of(source, requests):
@@ -60,9 +60,10 @@ def reach_of(source, requests):
 class Choice:
     """Versions of some names, and what is reached in each environment; all as the source was then."""
 
-    def __init__(self, requests, environments, table, rows, claims):
-        self._requests = requests
-        self._environments = environments
+    def __init__(self, call, table, rows, claims):
+        self._requests = call.requests
+        self._environments = call.environments
+        self._markers = call.markers()
         self._table = table
         self._picks = tuple([(name, table[name]) for name in table])
         self._rows = rows
@@ -77,6 +78,10 @@ class Choice:
     def environments(self):
         """The tuple of the environments."""
         return self._environments
+
+    def markers_then(self):
+        """The tuple of all markers that could matter when the choice was made."""
+        return self._markers
 
     @property
     def picks(self):

@@ -1,5 +1,7 @@
 """What requests and parcels claim in one environment."""
 
+from parcelindex.words import sorted_words
+
 
 def holding(requirements, environment):
     """The list of those of these requirements whose markers hold in an environment."""
@@ -37,6 +39,30 @@ class Stand:
         for word in words:
             found.extend(self._offered.get(word, []))
         return found
+
+
+def claims_within(requests, environment, parcels):
+    """What requests claim in an environment with these parcels, a dict by their names, in the place of all others."""
+    claims = Claims({}, {}, {})
+    for name in parcels:
+        claims.stand(name, Stand(parcels[name], environment))
+    waiting = holding(requests, environment)
+    while waiting:
+        requirement = waiting.pop()
+        if not claims.has(requirement):
+            waiting.extend(claims.claim(requirement))
+    return claims
+
+
+def owned_claims(claims, requests, environment):
+    """The tuple of all claims in one environment, with their owners: requests have none."""
+    found = [("", request) for request in holding(requests, environment)]
+    for name in claims.claimed_names():
+        stand = claims.stand_of(name)
+        if stand is not None:
+            words = sorted_words(claims.words_of(name))
+            found.extend([(name, requirement) for requirement in stand.claims(words)])
+    return tuple(found)
 
 
 class Claims:

@@ -15,6 +15,27 @@ def place_of(system, machine, level):
     return (place_of_word(system) * WORDS + place_of_word(machine)) * 100 + level
 
 
+def parts_of_environment(thing):
+    """The system, the machine and the level in the text of an environment; None for every other object."""
+    words = thing.split(" ") if isinstance(thing, str) else []
+    if len(words) != 3:
+        return None
+    system, machine, digits = words
+    level = number_in(digits, HIGHEST)
+    if not is_word(system) or not is_word(machine) or level is None:
+        return None
+    return system, machine, level
+
+
+def written_environment(text):
+    """The environment that gives itself exactly this text; None if there is none."""
+    parts = parts_of_environment(text)
+    if parts is None:
+        return None
+    system, machine, level = parts
+    return Environment(system=system, machine=machine, level=level)
+
+
 class Environment:
     """What parcels are chosen for."""
 
@@ -33,14 +54,10 @@ class Environment:
     @staticmethod
     def read(text):
         """The environment that gives itself exactly this text."""
-        words = text.split(" ") if isinstance(text, str) else []
-        if len(words) != 3:
+        environment = written_environment(text)
+        if environment is None:
             raise BadEnvironment(text)
-        system, machine, digits = words
-        level = number_in(digits, HIGHEST)
-        if not is_word(system) or not is_word(machine) or level is None:
-            raise BadEnvironment(text)
-        return Environment(system=system, machine=machine, level=level)
+        return environment
 
     @property
     def system(self):

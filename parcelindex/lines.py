@@ -24,6 +24,10 @@ class Lines:
         """Tells that the next line is wrong or missing."""
         raise WrongLine(self._done + 1)
 
+    def is_next(self, line):
+        """Whether the next line is there, and is this one."""
+        return self._done < len(self._rows) and self._rows[self._done] == line
+
     def begins(self, word):
         """Whether the next line is there and begins with this word and a space."""
         return self._done < len(self._rows) and self._rows[self._done].startswith(f"{word} ")
