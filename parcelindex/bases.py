@@ -7,7 +7,6 @@ from parcelindex.rows import line_of_row, read_environment, read_requests, read_
 from parcelindex.sources import Source
 from parcelindex.stores import stored_parcels
 from parcelindex.tastes import by_rank
-from parcelindex.versions import Version
 
 BASE = "base"
 # No number that is written on a disk is greater.
@@ -160,7 +159,7 @@ class Upheld(Source):
     def _upheld_in(self, name, version):
         """The parcel of a release that stands first, or None."""
         parcel = self._upheld(name)
-        if parcel is None or not isinstance(version, Version) or parcel.version != version:
+        if parcel is None or parcel.version != version:
             return None
         return parcel
 
@@ -210,5 +209,5 @@ class Standing(Source):
 
     def _about(self, name):
         """The source with what stands on the disk now for a name."""
-        rows = [row for row in rows_on(self._disk) if isinstance(name, str) and row[0] == name]
+        rows = [row for row in rows_on(self._disk) if row[0] == name]
         return Upheld(standing_parcels(self._disk, rows), self._source)

@@ -87,7 +87,7 @@ class Disk:
 
     def _check_power(self):
         """Refuses an act if the power is off."""
-        if self._power is not None and self._power == 0:
+        if self._power == 0:
             raise PowerCut(self._acts)
 
     def _act(self):

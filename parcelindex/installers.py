@@ -68,7 +68,7 @@ def parcels_for(disk, source, rows):
 def check_closed(base, parcels):
     """Refuses a base whose rows are not closed with parcels, a dict by sums."""
     rows = [parcels[digest] for digest in parcels]
-    if base.number > 0 and not is_closed(base.requests, base.environment, base.rows, tuple(rows)):
+    if not is_closed(base.requests, base.environment, base.rows, tuple(rows)):
         raise NotClosed(base.environment)
 
 
@@ -192,9 +192,8 @@ class Installer:
     def why(self, name):
         """The shortest tuple of names from a request to a name of the base."""
         base = self.base_now()
-        if not isinstance(name, str) or name not in [row[0] for row in base.rows]:
-            raise NoName(name)
-        chain = chain_to(self._disk, base, name)
+        is_known = isinstance(name, str) and name in [row[0] for row in base.rows]
+        chain = chain_to(self._disk, base, name) if is_known else None
         if chain is None:
             raise NoName(name)
         return chain
@@ -210,7 +209,7 @@ class Installer:
         choice = self._chosen(base, base.requests, None)
         for name, version, _, _, _ in base.rows:
             other = choice.version_of(name) if name in choice else None
-            if other is None or other != version:
+            if other != version:
                 yield name, version, other
 
     def _chosen(self, base, requests, fresh):

@@ -132,8 +132,9 @@ def lock_of(choice):
     return Lock(choice.requests, questions_of(choice.markers_then()), tuple(sections))
 
 
-def few_cells(markers):
-    """The list of the cells of markers; too many are refused."""
+def few_cells(questions):
+    """The list of the cells of questions; too many are refused."""
+    markers = tuple([Marker(question) for question in questions])
     found = []
     for cell in cells(markers):
         if len(found) == MOST_CELLS:
@@ -151,9 +152,9 @@ def section_alone(source, requests, environment, taste):
 def lock_everywhere(source, requests, *, taste=None):
     """The lock for all environments."""
     check_requests(requests)
-    markers = markers_in_reach(source, requests)
-    sections = [section_alone(source, requests, cell, taste) for cell in few_cells(markers)]
-    return Lock(requests, questions_of(markers), tuple(sections))
+    questions = questions_of(markers_in_reach(source, requests))
+    sections = [section_alone(source, requests, cell, taste) for cell in few_cells(questions)]
+    return Lock(requests, questions, tuple(sections))
 
 
 def is_closed(requests, environment, rows, parcels):

@@ -9,14 +9,14 @@ from parcelindex.places import rows_in_use
 from parcelindex.stores import path_of_sum, stored_parcels
 
 
-def unreadable(disk, paths):
-    """The list of those of the paths of the base, the journal and the marks that cannot be read."""
+def unreadable(disk, with_base):
+    """The list of those of the paths of the base, if it counts, the journal and the marks that cannot be read."""
     found = []
-    if BASE in paths and base_on(disk) is None:
+    if with_base and base_on(disk) is None:
         found.append(BASE)
-    if JOURNAL in paths and JOURNAL in disk and journal_on(disk) is None:
+    if JOURNAL in disk and journal_on(disk) is None:
         found.append(JOURNAL)
-    if MARKS in paths and marks_on(disk) is None:
+    if marks_on(disk) is None:
         found.append(MARKS)
     return found
 
@@ -29,7 +29,7 @@ def paths_of_missing(rows, parcels):
 
 def wrong_for_recovery(disk):
     """The ascending tuple of the paths of a disk that are wrong for a recovery."""
-    found = unreadable(disk, (JOURNAL, MARKS) if JOURNAL in disk else (BASE, MARKS))
+    found = unreadable(disk, JOURNAL not in disk)
     journal = journal_on(disk)
     if journal is not None:
         old, new = journal
@@ -107,7 +107,7 @@ def texts_to_repair(disk, source):
 
 def repaired(disk, source):
     """Repairs the store and the site of a disk; the tuple of the paths that were written."""
-    wrong = unreadable(disk, (BASE, JOURNAL, MARKS))
+    wrong = unreadable(disk, True)
     if wrong:
         raise Damaged(tuple(wrong))
     texts = texts_to_repair(disk, source)

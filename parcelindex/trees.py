@@ -23,8 +23,6 @@ def claimed_by_rows(disk, base):
 
 def requested_names(base):
     """The list of the names of the requests of a base that hold, in their order."""
-    if base.environment is None:
-        return []
     return [request.name for request in holding(base.requests, base.environment)]
 
 

@@ -212,6 +212,13 @@ class StandingTest(unittest.TestCase):
         put(disk, Parcel("tea", THREE, parts=(("a", "b"),)))
         self.assertEqual([(one.label, len(one.parts)) for one in standing.parcels_of("tea", THREE)], [("all", 1), ("all", 0)])
 
+    def test_rows_with_the_sums_of_other_releases(self):
+        disk, parcel = Disk(), Parcel("tea", ONE)
+        disk.write(f"store/{parcel.digest}", parcel.text)
+        for name, version, label, upheld in (("tea", ONE, "all", (parcel,)), ("cup", ONE, "all", ()), ("tea", TWO, "all", ()), ("tea", ONE, "big", (parcel,))):
+            disk.write("base", base_text(rows=[(name, version, (), label, parcel.digest)]))
+            self.check(Standing(disk, index_of(("tea", "3"), ("cup", "1"))), index_of(("tea", "3"), ("cup", "1")), upheld)
+
     def test_choosing_from_it(self):
         index, disk = index_of(("tea", "1"), ("tea", "2")), Disk()
         standing = Standing(disk, index)

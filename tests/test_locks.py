@@ -186,6 +186,8 @@ class TextTest(unittest.TestCase):
             with self.assertRaises(BadEnvironment) as held:
                 lock.section_for(thing)
             self.assertIs(held.exception.given, thing)
+            with self.assertRaises(BadEnvironment):
+                lock_everywhere(index, ()).section_for(thing)
         with self.assertRaises(TypeError):
             lock_everywhere(index, (tea,), Oldest())
 

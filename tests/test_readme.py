@@ -12,7 +12,7 @@ class ReadmeTest(unittest.TestCase):
     def test_examples(self):
         blocks = re.findall("```\n(>>>.*?)```", README.read_text(encoding="utf-8"), re.DOTALL)
         examples = doctest.DocTestParser().get_doctest("\n".join(blocks), {}, "README.md", "README.md", 0)
-        results = doctest.DocTestRunner(verbose=False).run(examples)
+        results = doctest.DocTestRunner(verbose=False, optionflags=doctest.ELLIPSIS).run(examples)
         self.assertEqual(results.failed, 0)
         self.assertGreater(results.attempted, 15)
 
