@@ -354,6 +354,12 @@ class ClosedTest(unittest.TestCase):
         for names, texts, right in (("ab", ("a",), True), ("abc", ("c",), False), ("c", ("c",), True), ("ab", (), False), ("abc", ("b", "c"), True)):
             self.assertIs(self.check(row_of(*texts), HERE[0], tuple(row for row in rows if row[0] in names), parcels), right)
 
+    def test_a_name_with_two_rows(self):
+        parcel = Parcel("tea", ONE)
+        rows = (("tea", ONE, (), "all", parcel.digest),)
+        self.assertIs(is_closed(row_of("tea"), HERE[0], rows, (parcel,)), True)
+        self.assertIs(is_closed(row_of("tea"), HERE[0], rows * 2, (parcel,)), False)
+
     def test_parcels_whose_markers_do_not_hold(self):
         parcel = Parcel("tea", ONE, marker=Marker("system == north"))
         rows = (("tea", ONE, (), "all", parcel.digest),)
