@@ -37,8 +37,11 @@ def read_base(lines, least):
 def whole_base(text, least):
     """The base with exactly this text; its number is not below the least one."""
     lines = Lines(text)
-    base = read_base(lines, least)
-    lines.finish()
+    try:
+        base = read_base(lines, least)
+        lines.finish()
+    except WrongLine as wrong:
+        raise BadBase(wrong.line) from None
     return base
 
 
@@ -54,20 +57,18 @@ class Base:
 
     @staticmethod
     def read(text):
-        """The base with exactly this text; none has the number 0."""
+        """The base with exactly this text."""
         if not isinstance(text, str):
             raise BadText(text)
-        try:
-            return whole_base(text, 1)
-        except WrongLine as wrong:
-            raise BadBase(wrong.line) from None
+        return whole_base(text, 0)
 
     @classmethod
     def of(cls, disk):
         """The base of a disk."""
         if BASE not in disk:
             return cls(0, None, (), ())
-        return cls.read(disk.text_at(BASE))
+        # The base 0 is told by a disk without this file, so a file with the number 0 is no base.
+        return whole_base(disk.text_at(BASE), 1)
 
     @property
     def number(self):

@@ -1,6 +1,6 @@
 """The places of a disk that installers use, beside its store: bases, marks and the journal."""
 
-from parcelindex.bases import GREATEST, Base, read_base, whole_base
+from parcelindex.bases import GREATEST, Base, read_base
 from parcelindex.checks import number_in
 from parcelindex.errors import BadBase
 from parcelindex.lines import Lines, WrongLine
@@ -60,8 +60,8 @@ def past_base(disk, number):
     if path not in disk:
         return None
     try:
-        base = whole_base(disk.text_at(path), 0)
-    except WrongLine:
+        base = Base.read(disk.text_at(path))
+    except BadBase:
         return None
     return base if base.number == number else None
 

@@ -56,7 +56,7 @@ def after(texts, acts):
 
 @functools.lru_cache(maxsize=None)
 def read_base(text):
-    """The base with this text, also the one with the number 0, or None."""
+    """The base with this text, or None."""
     if text == "base 0\n":
         return EMPTY
     if lock_model.wrong_line_of_base(text) is not None:

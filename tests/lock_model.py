@@ -154,7 +154,9 @@ def step_of_lock(state, line):
 def step_of_base(state, line):
     word, _, rest = line.partition(" ")
     at = state["at"]
-    if at == "start" and re.fullmatch("base [1-9][0-9]{0,49}", line):
+    if at == "start" and line == "base 0":
+        state["at"] = "zero"
+    elif at == "start" and re.fullmatch("base [1-9][0-9]{0,49}", line):
         state["at"] = "base"
     elif at == "base" and PLACE.fullmatch(line):
         state["at"] = "place"
@@ -171,7 +173,12 @@ def wrong_line_of_lock(text):
 
 
 def wrong_line_of_base(text):
-    return first_wrong_line(text, step_of_base, lambda state: state["at"] in ("place", "row"))
+    return first_wrong_line(text, step_of_base, lambda state: state["at"] in ("zero", "place", "row"))
+
+
+def wrong_line_of_base_file(text):
+    """The same for the file `base` of a disk: there a text with the number 0 is no base."""
+    return 1 if text.split("\n")[0] == "base 0" else wrong_line_of_base(text)
 
 
 def subsets(rows):

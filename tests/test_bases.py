@@ -31,6 +31,7 @@ def base_text(number=5, place="a a 0", requests=(), rows=()):
 
 SAMPLES = (base_text(1), base_text(20, "north big 99", ("tea", "cup[ice,milk]>=1,<2; level < 3"), ROWS), base_text(10 ** 20, rows=ROWS[1:2]),
            base_text(7, "b a 1", ("tea<0a0",)))
+ZERO = base_text(0)
 
 
 class BaseTest(unittest.TestCase):
@@ -56,8 +57,9 @@ class BaseTest(unittest.TestCase):
 
     def test_lines_written_out(self):
         head = "base 5\nenvironment a a 0\n"
-        for text, line in (("", 1), ("\n", 1), ("base", 1), ("base 5", 2), ("base 5\n", 2), (head, None), (head[:-1], 3), ("base 0\n", 1),
-                           ("base 0", 1), ("base 0\nenvironment a a 0\n", 1), ("base 05\n" + head[7:], 1), ("base -5\n" + head[7:], 1),
+        for text, line in (("", 1), ("\n", 1), ("base", 1), ("base 5", 2), ("base 5\n", 2), (head, None), (head[:-1], 3), ("base 0\n", None),
+                           ("base 0", 2), ("base 0\nx", 2), ("base 0\n\n", 2), ("base 0\nenvironment a a 0\n", 2), ("base 0\nthen\n", 2),
+                           ("base 00\n", 1), ("base -0\n", 1), ("base 0 \n", 1), ("base 0\t\n", 1), ("base 05\n" + head[7:], 1), ("base -5\n" + head[7:], 1),
                            ("base  5\n", 1), ("base 5 \n", 1), ("base five\n", 1), ("base +5\n", 1), ("Base 5\n", 1), (head + "request tea\n", None),
                            (head + "request tea\nrequest tea\n", 4), (head + "request tea\nrequest cup\nrequest tea>1\n", 5),
                            (head + "request tea\nrequest tea-1\n", None), (head + "request tea*\n", 3), (head + "question always\n", 3),
@@ -69,14 +71,20 @@ class BaseTest(unittest.TestCase):
             self.assertEqual(lock_model.wrong_line_of_base(text), line, text)
             self.check(text)
 
+    def test_number_0(self):
+        base = Base.read("base 0\n")
+        self.assertIs(type(base), Base)
+        self.assertEqual((base.number, base.environment, base.requests, base.rows, str(base)), (0, None, (), (), "base 0\n"))
+        self.assertEqual([type(part) for part in (base.number, base.requests, base.rows)], [int, tuple, tuple])
+
     def test_bent_texts(self):
         lines = ("base 1", "base 0", "base 5", "request tea", "request zz", "request a[b]<0a0", "question always", "environment a a 0", "nothing",
                  "row a 1 - all 5", "row zz 2rc1 a,b all 5", "row b 1 - all " + str(PRIME), "", "x", "row b 1 - all " + bending.DIGITS, "then", "\t")
-        for text in SAMPLES:
+        for text in SAMPLES + (ZERO,):
             self.check(text)
             for other in itertools.chain(bending.cut_off(text), bending.bent_lines(text, lines)):
                 self.check(other)
-        for other in itertools.chain(bending.bent_signs(SAMPLES[2], "a1 -,\n"), bending.bent_signs(SAMPLES[3], "a; \n")):
+        for other in itertools.chain(bending.bent_signs(SAMPLES[2], "a1 -,\n"), bending.bent_signs(SAMPLES[3], "a; \n"), bending.bent_signs(ZERO, "a01 -\n")):
             self.check(other)
         found = [self.check(text) for text in bending.bent_often(SAMPLES, lines + ("\n", "a", "1", " ", "") * 3, 1500, 6)]
         self.assertGreater(found.count(0), 5)
@@ -96,18 +104,21 @@ class BaseTest(unittest.TestCase):
             self.assertEqual(str(Base.of(disk=disk)), text)
             self.assertIs(type(Base.of(disk)), Base)
         acts = disk.acts
-        for text in ("", "base 0\n", "base 5\n", SAMPLES[1][:-1], SAMPLES[1] + "row b 1 - x 1\n", "x"):
+        for text, line in (("", 1), ("base 0\n", 1), ("base 0", 1), ("base 0\nx", 1), ("base 0\nenvironment a a 0\n", 1), ("base 5\n", 2),
+                           (SAMPLES[1][:-1], 8), (SAMPLES[1] + "row b 1 - x 1\n", 8), ("x", 1)):
             disk.write("base", text)
             with self.assertRaises(BadBase) as held:
                 Base.of(disk)
-            self.assertEqual(held.exception.line, lock_model.wrong_line_of_base(text))
-        self.assertEqual(disk.acts, acts + 6)
+            self.assertEqual((held.exception.line, lock_model.wrong_line_of_base_file(text)), (line, line), text)
+        self.assertEqual(disk.acts, acts + 9)
 
     def test_equality(self):
         bases = [Base.read(text) for text in SAMPLES] + [Base.of(Disk())]
         for one, other in itertools.product(bases, repeat=2):
             self.assertIs(one == other, one is other)
         self.assertIs(Base.of(Disk()) == bases[-1], True)
+        self.assertIs(Base.read(ZERO) == bases[-1], True)
+        self.assertIs(Base.read(ZERO) == bases[0], False)
         self.assertIs(Base.read(SAMPLES[1]) == bases[1], True)
         self.assertIs(Base.read(SAMPLES[1]) != bases[1], False)
         for thing in model.OTHERS + (0, SAMPLES[0], Base, Likes()):

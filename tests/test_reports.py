@@ -34,6 +34,7 @@ class TableTest(unittest.TestCase):
     def test_without_rows(self):
         self.assertEqual(table(base_of()), "")
         self.assertEqual(table(Base.of(Disk())), "")
+        self.assertEqual(table(Base.read("base 0\n")), "")
 
     def test_many(self):
         for seed in range(40):
